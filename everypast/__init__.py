@@ -1,0 +1,1 @@
+"""Everypast: what is certain in every past that fits the finds."""

@@ -1,0 +1,83 @@
+"""The names and parameters of the interface, each defined in its own file and class."""
+
+import inspect
+import importlib
+import unittest
+
+FUNCTIONS = {
+    "names": ("valid_name(text)",),
+    "shapes": ("line(size)", "star(size)", "equal_shapes(shape, other)"),
+    "middles": (
+        "middle(shape, first, second, third)", "odd_middle(shape, positions)",
+        "total_distance(shape, positions, position)",
+    ),
+    "regions": (
+        "common(shape, sides)", "is_connected(shape, positions)", "span(shape, positions)",
+        "fences(shape, positions)",
+    ),
+    "stocks": ("opposite(side)",),
+    "rows": (
+        "is_row(stock, row)", "has_side(stock, row, side)", "sides_of(stock, row)", "middle_row(stock, rows)",
+        "walls_parting(stock, row, other)", "lies_between(stock, row, start, goal)",
+    ),
+    "bonds": (
+        "keeps_bond(stock, row, bond)", "is_idle(stock, bond)", "tight_bonds(stock, rows, *, cells=None)",
+    ),
+    "clerks": ("map_fault(shape, other, images)", "identity(shape)"),
+    "chains": (
+        "steps_from(family, side)", "reached(family, side)", "chain(family, start, goal)", "turned(path)",
+    ),
+    "papers": ("is_chain(family, path, *, start=None, goal=None)", "is_ring(family, there, back)"),
+    "solving": ("solve(family)", "together(family, sides)"),
+    "claims": (
+        "verdict(family, side)", "certain_sides(family)", "open_sides(family)", "bond_holds(family, bond)",
+        "settle(family, sides)",
+    ),
+}
+
+METHODS = {
+    ("shapes", "Shape"): (
+        "__init__(self, parents)", "positions_of(self, side)", "has(self, position, side)",
+        "sides_at(self, position)", "leads_inside(self, side, other)", "way(self, start, goal)",
+        "parting(self, first, second)", "distance(self, first, second)", "is_line(self)",
+    ),
+    ("stocks", "Stock"): (
+        "__init__(self, cells)", "__len__(self)", "__iter__(self)", "__contains__(self, name)",
+        "shape_of(self, name)", "sides(self)", "walls(self)", "part(self, names)",
+    ),
+    ("tables", "Table"): (
+        "__init__(self, stock, rows)", "__len__(self)", "__iter__(self)", "__contains__(self, row)",
+        "__and__(self, other)", "fault(self)", "tight(self)", "hull(self)", "onto(self, names)",
+    ),
+    ("clerks", "Clerk"): (
+        "__init__(self, shape, other, images)", "__call__(self, position)", "__mul__(self, second)",
+        "pulled(self, wall)", "walls_kept(self)", "table(self, name, image_name)",
+    ),
+    ("families", "Family"): (
+        "__init__(self, stock, bonds)", "__len__(self)", "__iter__(self)", "is_past(self, row)",
+        "extended(self, bonds)", "without(self, place)",
+    ),
+}
+
+
+class Interface(unittest.TestCase):
+    def check(self, owner, written, file):
+        found = vars(owner)[written.split("(")[0]]
+        self.assertEqual(found.__name__ + str(inspect.signature(found)), written)
+        self.assertEqual(found.__module__, f"everypast.{file}")
+
+    def test_functions(self):
+        for file, functions in FUNCTIONS.items():
+            for written in functions:
+                self.check(importlib.import_module(f"everypast.{file}"), written, file)
+
+    def test_classes(self):
+        for (file, name), methods in METHODS.items():
+            owner = vars(importlib.import_module(f"everypast.{file}"))[name]
+            self.assertEqual(owner.__module__, f"everypast.{file}")
+            for written in methods:
+                self.check(owner, written, file)
+
+
+if __name__ == "__main__":
+    unittest.main()

@@ -1,0 +1,176 @@
+"""Those rules for the files of the package that can be tested quickly; the numbers are those of the rules."""
+
+import ast
+import builtins
+import pathlib
+import re
+import unittest
+
+PACKAGE = pathlib.Path(__file__).resolve().parent.parent / "everypast"
+FILES = sorted(path for path in PACKAGE.rglob("*") if "__pycache__" not in path.parts)
+
+BUILTINS = set(
+    "len range enumerate zip min max sum abs sorted reversed int str bool list tuple dict set isinstance ord repr any"
+    " all divmod iter next map super ValueError KeyError TypeError IndexError NotImplemented property staticmethod"
+    " classmethod getattr hasattr setattr".split()
+)
+# An interactive Python, and doctest, set the name _ there.
+OF_PYTHON = set(dir(builtins)) - {"_"}
+STATEMENTS = (
+    ast.Assign, ast.AugAssign, ast.If, ast.While, ast.For, ast.Return, ast.Break, ast.Continue, ast.Pass, ast.Raise,
+    ast.Assert, ast.Delete, ast.Nonlocal, ast.Match, ast.Try, ast.Expr, ast.FunctionDef, ast.ClassDef, ast.ImportFrom,
+)
+NOT_ANYWHERE = set("register mro elements open input law version_info with_traceback add_note".split())
+NOT_AS_NAMES = set(
+    "attrgetter breakpoint builtins compile copyright credits delattr dir eval exec exit gc globals help id importlib"
+    " license locals methodcaller os quit vars sys format".split()
+)
+NOT_IN_FILES = set(
+    "type typing typing_extensions enum Enum IntEnum StrEnum Flag IntFlag Generic Protocol ABC ABCMeta namedtuple"
+    " NamedTuple TypedDict TYPE_CHECKING abstractmethod".split()
+)
+METHODS = set("__init__ __len__ __iter__ __contains__ __and__ __mul__ __call__ __eq__ __repr__ __str__".split())
+
+
+def docstrings(tree):
+    holders = (ast.Module, ast.ClassDef, ast.FunctionDef)
+    return [
+        node.body[0].value
+        for node in ast.walk(tree)
+        if isinstance(node, holders) and ast.get_docstring(node) is not None
+    ]
+
+
+def bound_names(node):
+    """The names that a function binds: its parameters, targets and nested functions."""
+    names = []
+    for inner in ast.walk(node):
+        if isinstance(inner, ast.arg):
+            names.append(inner.arg)
+        elif isinstance(inner, ast.Name) and not isinstance(inner.ctx, ast.Load):
+            names.append(inner.id)
+        elif isinstance(inner, ast.FunctionDef) and inner is not node:
+            names.append(inner.name)
+        elif isinstance(inner, ast.ExceptHandler) and inner.name:
+            names.append(inner.name)
+    return names
+
+
+class Files(unittest.TestCase):
+    def trees(self):
+        for path in FILES:
+            yield path, ast.parse(path.read_text(encoding="utf-8"))
+
+    def test_files_and_characters(self):
+        self.assertLessEqual(len(FILES), 100)
+        self.assertIn(PACKAGE / "__init__.py", FILES)
+        for path in FILES:
+            self.assertTrue(path.is_file(), path)
+            self.assertRegex(path.name, r"^(__init__|__main__|[a-z][a-z0-9_]*)\.py$", "L1, L14")
+            lines = path.read_bytes().split(b"\n")
+            self.assertLessEqual(len(lines), 400, f"L10 {path}")
+            for number, line in enumerate(lines, 1):
+                self.assertLessEqual(len(line), 120, f"L10 {path}:{number}")
+                self.assertTrue(all(32 <= code < 127 for code in line), f"L14 {path}:{number}")
+
+    def test_sizes_of_functions(self):
+        for path, tree in self.trees():
+            for node in ast.walk(tree):
+                if isinstance(node, ast.FunctionDef):
+                    self.assertLessEqual(node.end_lineno - node.lineno + 1, 40, f"L10 {path}:{node.lineno}")
+
+    def test_imports(self):
+        needed = {}
+        for path, tree in self.trees():
+            needed[f"everypast.{path.stem}"] = []
+            for node in ast.walk(tree):
+                self.assertNotIsInstance(node, ast.Import, f"L16 {path}")
+                if isinstance(node, ast.ImportFrom):
+                    self.assertIn(node, tree.body, f"L2 {path}:{node.lineno}")
+                    self.assertTrue(node.module.startswith("everypast.") and node.level == 0, f"L2 {path}")
+                    source = ast.parse((PACKAGE / (node.module.split(".")[1] + ".py")).read_text(encoding="utf-8"))
+                    defined = [item.name for item in source.body if isinstance(item, (ast.FunctionDef, ast.ClassDef))]
+                    defined += [item.targets[0].id for item in source.body if isinstance(item, ast.Assign)]
+                    for alias in node.names:
+                        self.assertIsNone(alias.asname)
+                        self.assertIn(alias.name, defined, f"L16 {path}:{node.lineno}")
+                    needed[f"everypast.{path.stem}"].append(node.module)
+        while needed:
+            free = [name for name in needed if not any(other in needed for other in needed[name])]
+            self.assertTrue(free, f"L16: these import from each other: {sorted(needed)}")
+            for name in free:
+                del needed[name]
+
+    def test_statements_and_expressions(self):
+        for path, tree in self.trees():
+            for node in ast.walk(tree):
+                place = f"{path}:{getattr(node, 'lineno', 0)}"
+                if isinstance(node, ast.stmt):
+                    self.assertIsInstance(node, STATEMENTS, f"L6 {place}")
+                if isinstance(node, ast.Compare) and any(isinstance(sign, (ast.Is, ast.IsNot)) for sign in node.ops):
+                    self.assertIsInstance(node.comparators[0], ast.Constant, f"L20 {place}")
+                if isinstance(node, ast.Constant):
+                    self.assertIsInstance(node.value, (int, str, type(None)), f"L7 {place}")
+                    if isinstance(node.value, str) and node not in docstrings(tree):
+                        self.assertNotIn("%", node.value, f"L27 {place}")
+                if isinstance(node, ast.BinOp):
+                    self.assertNotIsInstance(node.op, ast.Div, f"L7 {place}")
+                self.assertNotIsInstance(node, (ast.AsyncFunctionDef, ast.Await, ast.Global, ast.With), f"L6 {place}")
+                if isinstance(node, ast.FunctionDef):
+                    allowed = ("property", "staticmethod", "classmethod")
+                    self.assertTrue(all(getattr(mark, "id", "") in allowed for mark in node.decorator_list), place)
+                    if node.name.startswith("__"):
+                        self.assertIn(node.name, METHODS, f"L5 {place}")
+
+    def test_module_level(self):
+        for path, tree in self.trees():
+            names = []
+            for node in tree.body:
+                if isinstance(node, ast.Expr):
+                    self.assertIn(node.value, docstrings(tree), f"L3 {path}:{node.lineno}")
+                elif isinstance(node, ast.ImportFrom):
+                    names.extend([alias.name for alias in node.names])
+                elif isinstance(node, (ast.FunctionDef, ast.ClassDef)):
+                    names.append(node.name)
+                else:
+                    self.assertIsInstance(node, ast.Assign, f"L3 {path}:{node.lineno}")
+                    names.append(node.targets[0].id)
+            self.assertEqual(len(names), len(set(names)), f"L15 {path}")
+
+    def test_names(self):
+        for path, tree in self.trees():
+            fixed = [item.name for item in tree.body if isinstance(item, ast.ClassDef)]
+            fixed += [alias.name for item in tree.body if isinstance(item, ast.ImportFrom) for alias in item.names]
+            for node in ast.walk(tree):
+                place = f"{path}:{getattr(node, 'lineno', 0)}"
+                if isinstance(node, ast.FunctionDef):
+                    for name in bound_names(node):
+                        self.assertNotIn(name, fixed, f"L15 {place}")
+                        self.assertNotIn(name, OF_PYTHON, f"L15 {place}")
+                        self.assertNotIn(name, NOT_AS_NAMES, f"L17 {place}")
+                if isinstance(node, (ast.FunctionDef, ast.ClassDef)):
+                    self.assertNotIn(node.name, OF_PYTHON, f"L15 {place}")
+                if isinstance(node, ast.Name) and isinstance(node.ctx, ast.Load) and node.id in OF_PYTHON:
+                    self.assertIn(node.id, BUILTINS, f"L8 {place}")
+
+    def test_words(self):
+        for path, tree in self.trees():
+            text = path.read_text(encoding="utf-8")
+            for word in ("dataclass", "overload", "contextmanager", "_wall" + "Attr"):
+                self.assertNotIn(word, text, f"L17 {path}")
+            self.assertIsNone(re.search(r"\b_wall\b|\b_WallAttr\b", text), f"L12 {path}")
+            for node in ast.walk(tree):
+                words = []
+                for field in ("id", "attr", "arg", "name"):
+                    if isinstance(getattr(node, field, None), str):
+                        words.append(getattr(node, field))
+                for word in words:
+                    self.assertNotIn(word, NOT_ANYWHERE | NOT_IN_FILES, f"L17 {path}:{getattr(node, 'lineno', 0)}")
+                    self.assertRegex(word, r"^(_?[A-Za-z][A-Za-z0-9_]*|_|__[a-z]+__)$", f"L12 {path}")
+                if isinstance(node, ast.Constant) and isinstance(node.value, str) and node not in docstrings(tree):
+                    for word in re.findall(r"\w+", node.value):
+                        self.assertNotIn(word, NOT_IN_FILES, f"L17 {path}:{node.lineno}")
+
+
+if __name__ == "__main__":
+    unittest.main()

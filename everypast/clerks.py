@@ -2,7 +2,6 @@
 
 from everypast.errors import BadImages, BadName, BadSide, NotKept, UnlikeShapes
 from everypast.middles import middle
-from everypast.names import valid_name
 from everypast.shapes import check_position, equal_shapes, ordered_sides
 from everypast.stocks import Stock
 from everypast.tables import Table
@@ -45,10 +44,10 @@ class Clerk:
         check_position(self.shape, position)
         return self.images[position]
 
-    def __mul__(self, second):
-        if not equal_shapes(self.other, second.shape):
+    def __mul__(self, other):
+        if not equal_shapes(self.other, other.shape):
             raise UnlikeShapes("")
-        return Clerk(self.shape, second.other, [second.images[image] for image in self.images])
+        return Clerk(self.shape, other.other, [other.images[image] for image in self.images])
 
     def pulled(self, wall):
         """Return the side to which the wall of the second shape is pulled back, or None for nothing."""
@@ -67,9 +66,8 @@ class Clerk:
 
     def table(self, name, image_name):
         """Return the table of the pairs of a position and its image, for two cells with these names."""
-        if not valid_name(name):
-            raise BadName(name)
-        if not valid_name(image_name) or image_name == name:
+        # Under one name both cells would be one: of two equal names, the second one is wrong.
+        if image_name == name:
             raise BadName(image_name)
         stock = Stock({name: self.shape, image_name: self.other})
         return Table(stock, list(enumerate(self.images)))

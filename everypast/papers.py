@@ -7,7 +7,8 @@ from everypast.stocks import is_inside, is_side, opposite
 def is_chain(family, path, *, start=None, goal=None):
     """Return True if the path is a chain of the family, from `start` and to `goal` if these are given."""
     sides, sources = path
-    if len(sides) == 0 or len(sources) != len(sides) - 1:
+    # This also rules out a path without sides.
+    if len(sources) != len(sides) - 1:
         return False
     if start is not None and sides[0] != start:
         return False
@@ -32,7 +33,7 @@ def _is_step(family, side, target, source):
 
 def is_ring(family, there, back):
     """Return True if the two paths are a ring of the family, otherwise False."""
-    if not is_chain(family, there) or not is_chain(family, back):
+    if not is_chain(family, there):
         return False
     start = there[0][0]
     goal = opposite(start)

@@ -59,6 +59,12 @@ class Keeping(Case):
             self.raises(BadBond, {"place": 0}, keeps_bond, stock, [0, 0], bond)
             self.raises(BadBond, {"place": 0}, is_idle, stock, bond)
 
+    def test_bonds_of_what_is_no_pair_of_a_name_and_a_number(self):
+        stock = Stock({"a": line(1), "b": line(2)})
+        for side in ("a", 1, (), ("a",), ("a", 1, 1), ("a", "b"), (1, "a"), (1, 1), (("a", 1), 1), ("a", (1,))):
+            self.raises(BadBond, {"place": 0}, is_idle, stock, (side,))
+            self.raises(BadBond, {"place": 0}, is_idle, stock, (("a", 1), side))
+
     def test_wrong_rows_come_before_wrong_bonds(self):
         stock = Stock({"a": line(1), "b": line(2)})
         for row in ([], [0], [2, 0], [0, 3], [0, 0, 0], [-1, 0]):

@@ -74,6 +74,14 @@ class Errors(unittest.TestCase):
         self.assertEqual((apart.first, apart.second), (("a", 1), ("a", 1)))
         self.assertEqual(apart.chain, ([("a", 1), ("a", -1)], [0]))
 
+    def test_no_error_keeps_the_lists_themselves(self):
+        path = ([("a", 1)], [])
+        for error in (
+            errors.BadRow([1]), errors.BadPast([1]), errors.NotClosed([[1], [2], [3]]), errors.NotKept([1, 2, 3]),
+            errors.NoPast(path, path), errors.NotTogether(("a", 1), ("a", 1), path),
+        ):
+            self.assertEqual([type(part) for part in error.args], [str])
+
     def test_two_indexes(self):
         error = errors.NoReading(2, 5)
         self.assertEqual((error.first, error.second), (2, 5))

@@ -50,7 +50,7 @@ METHODS = {
         "__and__(self, other)", "fault(self)", "tight(self)", "hull(self)", "onto(self, names)",
     ),
     ("clerks", "Clerk"): (
-        "__init__(self, shape, other, images)", "__call__(self, position)", "__mul__(self, second)",
+        "__init__(self, shape, other, images)", "__call__(self, position)", "__mul__(self, other)",
         "pulled(self, wall)", "walls_kept(self)", "table(self, name, image_name)",
     ),
     ("families", "Family"): (

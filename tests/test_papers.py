@@ -85,7 +85,10 @@ class Chains(Case):
         for side in (("c", 1), ("a", 0), ("a", 3), ("b", 2), ("", 1), ("a", -3)):
             self.assertIs(is_chain(FAMILY, ([side], [])), False)
             self.assertIs(is_chain(FAMILY, ([side], []), start=side, goal=side), False)
-            self.assertIs(is_chain(FAMILY, ([("b", -1), side], [0])), False)
+            for source in (-1, 0):
+                self.assertIs(is_chain(FAMILY, ([("b", -1), side], [source])), False)
+                self.assertIs(is_chain(FAMILY, ([side, ("b", -1)], [source])), False)
+                self.assertIs(is_chain(FAMILY, ([("a", 2), side], [source])), False)
             self.assertIs(is_chain(FAMILY, ([("b", -1)], []), start=side), False)
             self.assertIs(is_chain(FAMILY, ([("b", -1)], []), goal=side), False)
         self.assertIs(is_chain(FAMILY, ([("b", -1)], []), start=("b", -1), goal=("b", -1)), True)

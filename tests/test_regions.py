@@ -97,6 +97,7 @@ class Spans(Case):
             self.raises(BadPosition, {"position": 3}, call, line(2), [3])
             self.raises(BadPosition, {"position": -1}, call, line(2), [0, 1, -1, 3])
             self.raises(BadPosition, {"position": 3}, call, line(2), (2, 3, -1))
+            self.raises(BadPosition, {"position": 5}, call, line(1), [0, 1, 5])
 
 
 class Fences(Case):

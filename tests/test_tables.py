@@ -70,6 +70,15 @@ class MakingTables(Case):
             self.assertEqual((table & Table(stock, every_row(stock))).rows, ())
             self.assertEqual(table.onto(stock.names).rows, ())
 
+    def test_without_cells(self):
+        stock = Stock({})
+        for rows in ([], [[]], [(), []]):
+            table = Table(stock, rows)
+            self.assertEqual(table.rows, ((),) if rows else ())
+            self.assertEqual(table.hull().rows, table.rows)
+            self.assertIsNone(table.fault())
+            self.assertEqual(table.tight(), [])
+
     def test_wrong_rows(self):
         stock = Stock({"a": line(2), "b": line(1)})
         for row in ([], [0], [3, 0], [0, 2], [0, -1], [0, 0, 0]):

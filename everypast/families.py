@@ -1,9 +1,9 @@
 """Families: stocks with bonds, and their pasts (point 15)."""
 
-from everypast.bonds import is_bond, keeps_bond
+from everypast.bonds import is_bond
 from everypast.errors import BadBond, BadIndex
 from everypast.graphs import Graph
-from everypast.rows import is_row
+from everypast.rows import is_row, sides_of
 
 
 class Family:
@@ -23,7 +23,10 @@ class Family:
 
     def is_past(self, row):
         """Return True if the list is a row of the stock and keeps all bonds, otherwise False."""
-        return is_row(self.stock, row) and all(keeps_bond(self.stock, row, bond) for bond in self.bonds)
+        if not is_row(self.stock, row):
+            return False
+        had = {side: True for side in sides_of(self.stock, row)}
+        return all(bond[0] in had or bond[-1] in had for bond in self.bonds)
 
     def extended(self, bonds):
         """Return the family with the bonds of this one, followed by these bonds."""
@@ -34,7 +37,7 @@ class Family:
         """Return the family without the bond at this index."""
         if not 0 <= place < len(self.bonds):
             raise BadIndex(place)
-        return Family(self.stock, [*self.bonds[:place], *self.bonds[place + 1:]])
+        return Family(self.stock, self.bonds[:place] + self.bonds[place + 1:])
 
 
 def _check_bonds(stock, bonds):

@@ -1,6 +1,6 @@
 """What the tests compare the program with: the words of the document, tried on all positions and rows.
 
-Nothing here uses the program except the names of its errors and the attributes `parents`, `names`, `stock`, `bonds`.
+Of the program itself, this uses only the attributes of shapes, stocks and families, and the shapes of cells.
 """
 
 import functools
@@ -252,7 +252,7 @@ def some_families(count, *, seed, cells=3, size=3, bonds=9):
         })
         found = []
         for _ in range(dice.randint(0, bonds)):
-            bond = [dice.choice(stock.sides()) for _ in range(dice.choice([1, 2, 2, 2, 2]))]
+            bond = [dice.choice(sides(stock)) for _ in range(dice.choice([1, 2, 2, 2, 2]))]
             found.append(tuple(bond))
         families.append(Family(stock, found))
     return families

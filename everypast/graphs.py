@@ -52,7 +52,7 @@ def first_steps(graph, start):
     border = [start]
     while border:
         reached_now = []
-        for place in border:
+        for place in list(border):
             for target, source in graph.ahead[place]:
                 if target not in found:
                     found[target] = (place, source)

@@ -56,6 +56,56 @@ def bound_names(node):
     return names
 
 
+MODIFYING = set("append clear extend insert pop remove reverse setdefault update add discard sort".split())
+
+
+def same_things(function):
+    """For each name or attribute of a function, all names that plain assignments make the same thing, as sets."""
+    groups = []
+    for node in ast.walk(function):
+        if isinstance(node, ast.Assign) and isinstance(node.value, (ast.Name, ast.Attribute)):
+            written = {ast.unparse(part) for part in [node.value, *node.targets]}
+            joined = [group for group in groups if group & written]
+            groups = [group for group in groups if group not in joined] + [written.union(*joined)]
+    return {name: group for group in groups for name in group}
+
+
+def walked(loop):
+    """The names and attributes that a loop goes over, itself or through enumerate, zip, reversed or items."""
+    parts = [loop.iter]
+    if isinstance(loop.iter, ast.Call):
+        parts = []
+        if isinstance(loop.iter.func, ast.Attribute):
+            parts = [loop.iter.func.value]
+        elif loop.iter.func.id in ("enumerate", "zip", "reversed"):
+            parts = loop.iter.args
+    return [ast.unparse(part) for part in parts if isinstance(part, (ast.Name, ast.Attribute, ast.Subscript))]
+
+
+def changed(loop):
+    """What the rows of a loop change: lists and dicts by their methods, or their items."""
+    found = []
+    for node in ast.walk(loop):
+        if isinstance(node, ast.Call) and isinstance(node.func, ast.Attribute) and node.func.attr in MODIFYING:
+            found.append(ast.unparse(node.func.value))
+        if isinstance(node, ast.Subscript) and not isinstance(node.ctx, ast.Load):
+            found.append(ast.unparse(node.value))
+    return found
+
+
+def loops_that_change_what_they_walk(tree):
+    found = []
+    for function in ast.walk(tree):
+        if isinstance(function, ast.FunctionDef):
+            same = same_things(function)
+            for loop in ast.walk(function):
+                if isinstance(loop, ast.For):
+                    for name in walked(loop):
+                        if same.get(name, {name}) & set(changed(loop)):
+                            found.append(loop.lineno)
+    return found
+
+
 class Files(unittest.TestCase):
     def trees(self):
         for path in FILES:
@@ -121,6 +171,21 @@ class Files(unittest.TestCase):
                     self.assertTrue(all(getattr(mark, "id", "") in allowed for mark in node.decorator_list), place)
                     if node.name.startswith("__"):
                         self.assertIn(node.name, METHODS, f"L5 {place}")
+
+    def test_loops(self):
+        for path, tree in self.trees():
+            self.assertEqual(loops_that_change_what_they_walk(tree), [], f"L23 {path}")
+
+    def test_the_test_of_loops(self):
+        rows = ["def told(xs):", "    border = xs", "    later = []", "    for x in {}:", "        {}", "    border = later"]
+        text = "\n".join(rows)
+        for head, row, wrong in (
+            ("border", "later.append(x)", True), ("enumerate(border)", "xs.append(x)", True),
+            ("xs.items()", "border[x] = 1", True), ("border", "del later[0]", True),
+            ("list(border)", "later.append(x)", False), ("border", "other.append(x)", False),
+        ):
+            tree = ast.parse(text.format(head, row))
+            self.assertEqual(loops_that_change_what_they_walk(tree), [4] if wrong else [], (head, row))
 
     def test_module_level(self):
         for path, tree in self.trees():

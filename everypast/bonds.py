@@ -23,6 +23,12 @@ def keeps_bond(stock, row, bond):
     return any(has_side(stock, row, side) for side in bond)
 
 
+def keeps_all(stock, row, bonds):
+    """Return True if the row keeps all the bonds, otherwise False; the row and the bonds are those of the stock."""
+    had = {side: True for side in sides_of(stock, row)}
+    return all(bond[0] in had or bond[-1] in had for bond in bonds)
+
+
 def is_idle(stock, bond):
     """Return True if every row of the stock keeps the bond, otherwise False."""
     check_bond(stock, bond)

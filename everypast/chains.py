@@ -1,6 +1,6 @@
 """Steps between sides and chains of them (points 17 and 18)."""
 
-from everypast.graphs import first_steps, shortest_chain
+from everypast.graphs import places_in, shortest_chain
 from everypast.stocks import check_stock_side, opposite
 
 
@@ -15,7 +15,7 @@ def reached(family, side):
     """Return the sides to which the side leads, with itself, in their order."""
     check_stock_side(family.stock, side)
     graph = family.graph
-    return [graph.listed[place] for place in sorted(first_steps(graph, graph.places[side]))]
+    return [graph.listed[place] for place in places_in(graph.led[graph.places[side]])]
 
 
 def chain(family, start, goal):

@@ -1,7 +1,8 @@
 """Verdicts about sides, bonds and claims (points 20 and 22)."""
 
 from everypast.bonds import check_bond
-from everypast.graphs import across, leads
+from everypast.errors import NotOpen
+from everypast.graphs import across, is_certain, is_open, leads
 from everypast.solving import check_past, together
 from everypast.stocks import check_stock_side, opposite
 
@@ -11,34 +12,35 @@ def verdict(family, side):
     check_stock_side(family.stock, side)
     check_past(family)
     place = family.graph.places[side]
-    if _is_certain(family.graph, place):
+    if is_certain(family.graph, place):
         return "certain"
-    if _is_certain(family.graph, across(place)):
+    if is_certain(family.graph, across(place)):
         return "impossible"
     return "open"
 
 
-def _is_certain(graph, place):
-    """Return True if every past has the side at this place: its opposite leads to it."""
-    return leads(graph, across(place), place)
+def place_of_open(family, side):
+    """Return the place of the open side, or raise BadSide, NoPast or NotOpen."""
+    check_stock_side(family.stock, side)
+    check_past(family)
+    place = family.graph.places[side]
+    if not is_open(family.graph, place):
+        raise NotOpen(side)
+    return place
 
 
 def certain_sides(family):
     """Return all certain sides of the stock, in their order."""
     check_past(family)
     graph = family.graph
-    return [side for place, side in enumerate(graph.listed) if _is_certain(graph, place)]
+    return [side for place, side in enumerate(graph.listed) if is_certain(graph, place)]
 
 
 def open_sides(family):
     """Return all open sides of the stock, in their order."""
     check_past(family)
     graph = family.graph
-    return [
-        side
-        for place, side in enumerate(graph.listed)
-        if not _is_certain(graph, place) and not _is_certain(graph, across(place))
-    ]
+    return [side for place, side in enumerate(graph.listed) if is_open(graph, place)]
 
 
 def bond_holds(family, bond):
@@ -48,7 +50,7 @@ def bond_holds(family, bond):
     graph = family.graph
     first = graph.places[bond[0]]
     last = graph.places[bond[-1]]
-    return _is_certain(graph, first) or _is_certain(graph, last) or leads(graph, across(first), last)
+    return is_certain(graph, first) or is_certain(graph, last) or leads(graph, across(first), last)
 
 
 def settle(family, sides):

@@ -1,9 +1,9 @@
 """Families: stocks with bonds, and their pasts (point 15)."""
 
-from everypast.bonds import is_bond
+from everypast.bonds import is_bond, keeps_all
 from everypast.errors import BadBond, BadIndex
 from everypast.graphs import Graph
-from everypast.rows import is_row, sides_of
+from everypast.rows import is_row
 
 
 class Family:
@@ -23,10 +23,7 @@ class Family:
 
     def is_past(self, row):
         """Return True if the list is a row of the stock and keeps all bonds, otherwise False."""
-        if not is_row(self.stock, row):
-            return False
-        had = {side: True for side in sides_of(self.stock, row)}
-        return all(bond[0] in had or bond[-1] in had for bond in self.bonds)
+        return is_row(self.stock, row) and keeps_all(self.stock, row, self.bonds)
 
     def extended(self, bonds):
         """Return the family with the bonds of this one, followed by these bonds."""

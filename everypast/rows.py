@@ -18,6 +18,14 @@ def check_row(stock, row):
         raise BadRow(row)
 
 
+def every_row(stock):
+    """Return all rows of the stock, in ascending order."""
+    rows = [[]]
+    for name in stock.names:
+        rows = [[*row, position] for row in rows for position in range(stock.shape_of(name).size + 1)]
+    return rows
+
+
 def has_side(stock, row, side):
     """Return True if the row has the side, otherwise False."""
     check_row(stock, row)

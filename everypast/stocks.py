@@ -65,6 +65,11 @@ def is_side(stock, side):
     return cell in stock and is_number_of_side(stock.shape_of(cell), number)
 
 
+def is_wall(stock, wall):
+    """Return True if the value is a wall of the stock, otherwise False."""
+    return is_side(stock, wall) and wall[1] > 0
+
+
 def check_stock_side(stock, side):
     """Raise BadSide if the value is not a side of the stock."""
     if not is_side(stock, side):

@@ -8,7 +8,7 @@ import itertools
 import random
 import unittest
 
-from everypast.errors import FindsError
+from everypast.errors import FindsError, NoPast
 from everypast.families import Family
 from everypast.shapes import Shape
 from everypast.stocks import Stock
@@ -26,6 +26,62 @@ class Case(unittest.TestCase):
             self.assertEqual(found, value)
             self.assertIs(type(found), type(value))
         return caught.exception
+
+    def refuses(self, site, find, error, attributes):
+        """Taking the find raises this error, also among other finds, and each time the site is as it was."""
+        before = state_of(site)
+        found = self.raises(error, attributes, site.take, find)
+        self.assertEqual(state_of(site), before)
+        self.raises(error, attributes, site.take_all, [*before[0], find, ("no such find",)])
+        self.assertEqual(state_of(site), before)
+        return found
+
+    def check_site(self, site, allowed):
+        """The site's bonds, family, sources and rows are those of its finds.
+
+        `allowed(find)` gives the cells that the find names and the set of the rows of positions that it allows.
+        """
+        stock = site.stock
+        finds = list(site)
+        self.assertEqual(len(site), len(finds))
+        bonds = []
+        sources = []
+        left = every_row(stock)
+        for place, find in enumerate(finds):
+            cells, rows = allowed(find)
+            at = [stock.names.index(cell) for cell in cells]
+            fitting = [row for row in every_row(stock) if tuple(row[index] for index in at) in rows]
+            own = [find[1:]] if find[0] == "bond" else tight(stock, fitting, cells)
+            self.assertEqual(site.bonds_of(place), own)
+            self.assertIs(type(site.bonds_of(place)), list)
+            bonds.extend(own)
+            sources.extend([place] * len(own))
+            left = [row for row in left if row in fitting]
+        family = site.family()
+        self.assertIs(type(family), Family)
+        self.assertEqual((family.stock.names, list(family)), (stock.names, bonds))
+        self.assertEqual(site.sources(), sources)
+        self.assertEqual(every_past(family), left)
+        for row in every_row(stock):
+            self.assertIs(site.allows(row), row in left)
+            self.assertIs(site.allows(list(row)), row in left)
+        return left
+
+    def raises_no_past(self, family, function, *args, **more):
+        """The call raises NoPast with a ring of the family, each time with new lists."""
+        for _ in range(2):
+            with self.assertRaises(NoPast) as caught:
+                function(*args, **more)
+            error = caught.exception
+            self.assertTrue(is_ring(family, error.there, error.back))
+            for path in (error.there, error.back):
+                path[0].clear()
+                path[1].clear()
+
+
+def state_of(site):
+    """What can be seen of a site."""
+    return (list(site), len(site), [site.bonds_of(place) for place in range(len(site))], list(site.family()))
 
 
 # Shapes, given by their parents.
@@ -179,10 +235,37 @@ def tight(stock, rows, cells):
     return found
 
 
+def missing_middle(stock, rows):
+    """Whether the middle of some three of the rows is not one of them."""
+    listed = {tuple(row) for row in rows}
+    return any(
+        tuple(middle_of_rows(stock, three)) not in listed
+        for three in itertools.combinations_with_replacement(sorted(listed), 3)
+    )
+
+
+def closed_rows(stock, rows):
+    """The least set of rows that contains these rows and all middles, in ascending order."""
+    found = {tuple(row) for row in rows}
+    while True:
+        added = {tuple(middle_of_rows(stock, three)) for three in itertools.combinations(sorted(found), 3)} - found
+        if not added:
+            return sorted(found)
+        found |= added
+
+
 # Families.
 
 def every_past(family):
-    return [row for row in every_row(family.stock) if all(keeps(family.stock, row, bond) for bond in family.bonds)]
+    """All pasts of the family, as tuples, in ascending order."""
+    return list(_every_past(family))
+
+
+@functools.cache
+def _every_past(family):
+    # Families never change, so each one is tried only once.
+    rows = every_row(family.stock)
+    return tuple(row for row in rows if all(keeps(family.stock, row, bond) for bond in family.bonds))
 
 
 def steps(family, side):
@@ -239,17 +322,87 @@ def is_ring(family, there, back):
     return is_chain(family, there, start, goal) and is_chain(family, back, goal, start)
 
 
+@functools.cache
+def had_by(family, side):
+    """The pasts that have the side, as a set."""
+    return frozenset(row for row in every_past(family) if row_has(family.stock, row, side))
+
+
+def open_sides(family):
+    count = len(every_past(family))
+    return [side for side in sides(family.stock) if 0 < len(had_by(family, side)) < count]
+
+
+def ties(family):
+    """The listed ties of a family with a past, word by word."""
+    return [list(tie) for tie in _ties(family)]
+
+
+@functools.cache
+def _ties(family):
+    found = []
+    for side in open_sides(family):
+        tie = [other for other in sides(family.stock) if had_by(family, other) == had_by(family, side)]
+        opposite_tie = [other_side(other) for other in tie]
+        first = next(other for other in sides(family.stock) if other in tie or other in opposite_tie)
+        if first in tie and tie not in found:
+            found.append(tie)
+    return sorted(found, key=lambda tie: sides(family.stock).index(tie[0]))
+
+
+def parting(family, row, other):
+    """The listed ties that part two pasts."""
+    return [tie for tie in ties(family) if row_has(family.stock, row, tie[0]) != row_has(family.stock, other, tie[0])]
+
+
+def walls_apart(stock, row, other):
+    """The walls of which two rows have different sides."""
+    return [
+        (name, number)
+        for name, number in sides(stock)
+        if number > 0 and row_has(stock, row, (name, number)) != row_has(stock, other, (name, number))
+    ]
+
+
+def are_near(family, row, other):
+    """Whether two pasts differ exactly in the walls of one tie."""
+    apart = walls_apart(family.stock, row, other)
+    return apart in [sorted_walls(family.stock, tie) for tie in ties(family)]
+
+
+def sorted_walls(stock, tie):
+    walls = {(name, abs(number)) for name, number in tie}
+    return [side for side in sides(stock) if side in walls]
+
+
 # Families to try.
+
+def some_stock(dice, cells, size):
+    return Stock({
+        name: Shape([dice.randrange(place + 1) for place in range(dice.randint(1, size))])
+        for name in ["a", "b", "c", "d"][:dice.randint(1, cells)]
+    })
+
+
+def tied_families(count, *, seed, cells=3, size=3):
+    """Families of bonds that a few rows keep: these have a past, and often ties of several sides."""
+    dice = random.Random(seed)
+    families = []
+    for _ in range(count):
+        stock = some_stock(dice, cells, size)
+        rows = [dice.choice(every_row(stock)) for _ in range(dice.randint(2, 5))]
+        pairs = list(itertools.combinations_with_replacement(sides(stock), 2))
+        kept = [bond for bond in pairs if all(keeps(stock, row, bond) for row in rows)]
+        families.append(Family(stock, dice.sample(kept, dice.randint(len(kept) * 3 // 4, len(kept)))))
+    return families
+
 
 def some_families(count, *, seed, cells=3, size=3, bonds=9):
     """Families of a few cells and bonds, always the same ones for the same seed."""
     dice = random.Random(seed)
     families = []
     for _ in range(count):
-        stock = Stock({
-            name: Shape([dice.randrange(place + 1) for place in range(dice.randint(1, size))])
-            for name in ["a", "b", "c", "d"][:dice.randint(1, cells)]
-        })
+        stock = some_stock(dice, cells, size)
         found = []
         for _ in range(dice.randint(0, bonds)):
             bond = [dice.choice(sides(stock)) for _ in range(dice.choice([1, 2, 2, 2, 2]))]

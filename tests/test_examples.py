@@ -25,6 +25,9 @@ DOCUMENT = """
 [('a', 1), ('a', -2), ('b', -1)]
 >>> chain(family, ("b", -1), ("a", -2))
 ([('b', -1), ('a', -2)], [1])
+>>> from everypast.twins import near_twins
+>>> near_twins(family, ("a", 2))
+([1, 1], [2, 1])
 """
 
 
@@ -40,7 +43,10 @@ class Examples(unittest.TestCase):
 
     def test_the_readme(self):
         text = (ROOT / "README.md").read_text(encoding="utf-8")
-        self.check(text.split("```python\n")[1].split("```")[0], "README.md")
+        examples = [part.split("```")[0] for part in text.split("```python\n")[1:]]
+        self.assertEqual(len(examples), 2)
+        for example in examples:
+            self.check(example, "README.md")
 
 
 if __name__ == "__main__":

@@ -33,6 +33,37 @@ FUNCTIONS = {
         "verdict(family, side)", "certain_sides(family)", "open_sides(family)", "bond_holds(family, bond)",
         "settle(family, sides)",
     ),
+    "possible": (
+        "possible_positions(family, cell)", "possible_rows(family, cells)", "decide(family, cells, rows)",
+    ),
+    "listing": (
+        "first_past(family)", "next_past(family, row)", "pasts(family, *, limit=20)",
+        "count_pasts(family, *, limit=50)",
+    ),
+    "conflicts": ("conflict(family)", "unavoidable(family)"),
+    "ties": ("ties(family)", "tie_of(family, side)", "parting_ties(family, row, other)"),
+    "twins": ("near_twins(family, side)", "are_near(family, row, other)", "trail(family, start, goal)"),
+    "free": (
+        "free(family, walls)", "answers(family, walls)", "free_ties(family)", "count_free_sets(family, *, limit=50)",
+    ),
+    "news": ("news(family, row, sides)",),
+    "looks": (
+        "settles(family, looks, side)", "gained(family, shown)", "outcomes(family, look)",
+        "least_yield(family, look)", "best_look(family, looks, costs)",
+    ),
+    "raising": (
+        "earliest(layers)", "latest(layers)", "least_with(layers, deed, layer)", "generators(layers)",
+        "conflict_chain(layers)",
+    ),
+    "orders": (
+        "signs(layers, first, second)", "order(layers, first, second)", "hidden_marks(layers)",
+        "with_mark(layers, place, sign)", "mark_yields(layers, place)",
+    ),
+    "rounds": (
+        "counts(clerk)", "settling(clerk)", "kept_for_ever(clerk)", "orbit(clerk, sign)", "home_signs(clerk)",
+        "swaps(clerk)",
+    ),
+    "texts": ("readings(text, place)", "told_by(text, place, side)"),
 }
 
 METHODS = {
@@ -57,6 +88,17 @@ METHODS = {
         "__init__(self, stock, bonds)", "__len__(self)", "__iter__(self)", "is_past(self, row)",
         "extended(self, bonds)", "without(self, place)",
     ),
+    ("sites", "Site"): (
+        "__init__(self, stock)", "__len__(self)", "__iter__(self)", "take(self, find)", "take_all(self, finds)",
+        "drop(self, place)", "twin(self)", "bonds_of(self, place)", "family(self)", "sources(self)",
+        "allows(self, row)",
+    ),
+    ("layers", "Layers"): ("__init__(self, deeds, last)",),
+    ("routes", "Route"): (
+        "__init__(self, shape, *clerks)", "__len__(self)", "__iter__(self)", "then(self, clerk)", "composed(self)",
+        "copied(self, sign)", "walls_kept(self)", "loss(self, wall)", "alike(self, first, second)",
+    ),
+    ("texts", "Text"): ("__init__(self, places, shape, clerks)", "clerk_of(self, name)"),
 }
 
 

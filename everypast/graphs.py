@@ -152,7 +152,11 @@ def first_steps(graph, start):
 
 def shortest_chain(graph, start, goal):
     """Return a chain with as few steps as possible from one place to the other, or None if there is none."""
-    found = first_steps(graph, start)
+    return chain_along(graph, first_steps(graph, start), goal)
+
+
+def chain_along(graph, found, goal):
+    """Return a shortest chain to the goal from the place whose first steps were found, or None if there is none."""
     if goal not in found:
         return None
     sides = [graph.listed[goal]]

@@ -1,7 +1,7 @@
 """News: the past nearest to a past that has some sides (point 36)."""
 
 from everypast.errors import NotTogether
-from everypast.graphs import leads, places_in, shortest_chain, spread
+from everypast.graphs import chain_along, first_steps, places_in, spread
 from everypast.listing import check_is_past
 from everypast.solving import check_past, clash, mask_of_row, places_of, row_of
 from everypast.twins import taking
@@ -30,8 +30,9 @@ def check_together(family, places):
 
 def given(graph, givers, places):
     """Return, for each of the places, its side, a giver that leads to it, and a chain from the giver to it."""
+    found = {giver: first_steps(graph, giver) for giver in givers}
     entries = []
     for place in places:
-        giver = [other for other in givers if leads(graph, other, place)][0]
-        entries.append((graph.listed[place], graph.listed[giver], shortest_chain(graph, giver, place)))
+        giver = [other for other in givers if place in found[other]][0]
+        entries.append((graph.listed[place], graph.listed[giver], chain_along(graph, found[giver], place)))
     return entries

@@ -67,8 +67,9 @@ class Text(Site):
 
 def signs_allowed(text, find):
     """Return the signs that the "copy" find allows at its place, in ascending order."""
-    _, name, _, shown, slips = find
-    clerk = text.clerk_of(name)
+    clerk = text.clerk_of(find[1])
+    shown = find[3]
+    slips = find[4]
     return [sign for sign, image in enumerate(clerk.images) if clerk.other.distance(image, shown) <= slips]
 
 

@@ -169,6 +169,8 @@ class Ties(Case):
         whole = Family(Stock({"a": line(1), "b": star(2)}), [])
         self.assertEqual(free_ties(whole), [(0, 1), (0, 2)])
         self.assertEqual(count_free_sets(whole), 6)
+        many = Family(Stock({name: line(2) for name in "abcd"}), [])
+        self.assertEqual((count_free_sets(many), count_free_sets(many, limit=200)), (50, 81))
         single = whole.extended([(("a", 1),), (("b", 2),)])
         self.assertEqual((free_ties(single), count_free_sets(single)), ([], 1))
         free_ties(whole).clear()

@@ -177,15 +177,15 @@ class Files(unittest.TestCase):
             self.assertEqual(loops_that_change_what_they_walk(tree), [], f"L23 {path}")
 
     def test_the_test_of_loops(self):
-        rows = ["def told(xs):", "    border = xs", "    later = []", "    for x in {}:", "        {}", "    border = later"]
-        text = "\n".join(rows)
-        for head, row, wrong in (
+        head = ["def told(xs):", "    border = xs", "    later = []"]
+        text = "\n".join([*head, "    for x in {}:", "        {}", "    border = later"])
+        for walk, row, wrong in (
             ("border", "later.append(x)", True), ("enumerate(border)", "xs.append(x)", True),
             ("xs.items()", "border[x] = 1", True), ("border", "del later[0]", True),
             ("list(border)", "later.append(x)", False), ("border", "other.append(x)", False),
         ):
-            tree = ast.parse(text.format(head, row))
-            self.assertEqual(loops_that_change_what_they_walk(tree), [4] if wrong else [], (head, row))
+            tree = ast.parse(text.format(walk, row))
+            self.assertEqual(loops_that_change_what_they_walk(tree), [4] if wrong else [], (walk, row))
 
     def test_module_level(self):
         for path, tree in self.trees():

@@ -7,7 +7,9 @@ from everypast.errors import BadPosition, UnknownName
 from everypast.layers import Layers
 from everypast.raising import conflict_chain, earliest, generators, latest, least_with
 
-SITES = some_sites(150, seed=420, finds=4) + some_sites(60, seed=421, deeds=4, last=2) + some_sites(10, seed=422, last=8)
+SITES = (
+    some_sites(150, seed=420, finds=4) + some_sites(60, seed=421, deeds=4, last=2) + some_sites(10, seed=422, last=8)
+)
 
 
 def least(rows):
@@ -87,6 +89,19 @@ class Raising(Case):
         site.take(("after", "a", "b", 3))
         path = conflict_chain(site)
         self.assertEqual([side[1] for side in path[0]], [2, 1])
+
+    def test_chains_that_would_turn_down(self):
+        # A shortest chain from u to g leads down from x to v: it is none of the chains that are asked for.
+        for deeds in ("ugxv", "vuxg", "guvx", "xvgu"):
+            site = Layers(list(deeds), 1)
+            site.take_all([
+                ("from", "u", 1), ("from", "v", 1), ("by", "g", 0), ("by", "x", 0), ("after", "x", "u", 0),
+                ("after", "g", "v", 0), ("after", "x", "v", 0),
+            ])
+            path = conflict_chain(site)
+            self.assertTrue(is_chain(site.family(), path, path[0][0], path[0][-1]))
+            self.assertIn([cell for cell, _ in path[0]], (["u", "x"], ["v", "g"], ["v", "x"]))
+            self.assertTrue(all(number == 1 for _, number in path[0]))
 
     def test_a_site_with_one_past_and_without_finds(self):
         site = Layers(["a", "b"], 2)

@@ -92,7 +92,8 @@ class Rounds(Case):
         around = clerk_of(*LARGE_ROUNDS[5])
         self.assertEqual((orbit(around, 3), settling(around)), (([], [3, 4, 5, 6, 7, 8, 1, 2]), 0))
         mixed = clerk_of(*LARGE_ROUNDS[6])
-        self.assertEqual((orbit(mixed, 8), orbit(mixed, 4), swaps(mixed)), (([8, 7, 6], [0]), ([], [4, 5, 3]), [(1, 2)]))
+        self.assertEqual((orbit(mixed, 8), orbit(mixed, 4)), (([8, 7, 6], [0]), ([], [4, 5, 3])))
+        self.assertEqual(swaps(mixed), [(1, 2)])
         self.assertEqual((counts(mixed), kept_for_ever(mixed)), ([8, 7, 6, 5], [1, 2, 3, 4, 5]))
 
     def test_clerks_that_are_no_rounds(self):

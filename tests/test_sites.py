@@ -206,7 +206,8 @@ class Changes(Case):
             self.assertEqual(site.drop(place), self.finds[place])
             self.assertEqual(list(site), self.finds[:place] + self.finds[place + 1:])
             self.check_site(site, allowed_in(STOCK))
-        self.assertEqual([self.site.drop(2), self.site.drop(0), self.site.drop(0)], [self.finds[at] for at in (2, 0, 1)])
+        dropped = [self.site.drop(2), self.site.drop(0), self.site.drop(0)]
+        self.assertEqual(dropped, [self.finds[at] for at in (2, 0, 1)])
         self.assertEqual((list(self.site), len(self.site), self.site.sources()), ([], 0, []))
         self.raises(BadIndex, {"place": 0}, self.site.drop, 0)
         self.assertEqual(self.site.take(self.finds[1]), 0)

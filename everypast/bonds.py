@@ -47,9 +47,17 @@ def tight_bonds(stock, rows, *, cells=None):
         check_row(stock, row)
     sides = _sides_of_cells(stock, cells)
     lacks = _lacks(stock, rows)
-    firm = [side for side in sides if lacks[side] == 0]
-    loose = [side for side in sides if lacks[side] != 0]
-    return _tight_singles(stock, firm) + _tight_pairs(stock, loose, lacks)
+    return tight_among(stock, sides, lambda first, second: lacks[first] & lacks[second] == 0)
+
+
+def tight_among(stock, sides, holds):
+    """Return the tight bonds over the cells of these sides, all sides of some cells in their order.
+
+    `holds` is a function that tells whether the bond of two sides holds; with the same side twice, whether it is firm.
+    """
+    firm = [side for side in sides if holds(side, side)]
+    loose = [side for side in sides if not holds(side, side)]
+    return _tight_singles(stock, firm) + _tight_pairs(stock, loose, holds)
 
 
 def _sides_of_cells(stock, cells):
@@ -79,15 +87,15 @@ def _tight_singles(stock, firm):
     ]
 
 
-def _tight_pairs(stock, loose, lacks):
+def _tight_pairs(stock, loose, holds):
     """Return the tight bonds of two sides, both of them not firm."""
     narrower = {side: sides_within(stock, side) for side in loose}
     return [
         (first, second)
         for at, first in enumerate(loose)
         for second in loose[at + 1:]
-        if lacks[first] & lacks[second] == 0
+        if holds(first, second)
         and not _always_kept(stock, first, second)
-        and all(lacks[side] & lacks[second] != 0 for side in narrower[first])
-        and all(lacks[first] & lacks[side] != 0 for side in narrower[second])
+        and not any(holds(side, second) for side in narrower[first])
+        and not any(holds(first, side) for side in narrower[second])
     ]

@@ -1,19 +1,17 @@
 """Conflicts of a family without a past (point 25)."""
 
-from everypast.graphs import INSIDE, across, led_by, place_of_ring, shortest_chain
+from everypast.graphs import INSIDE, across, led_with, place_of_ring, shortest_chain
 
 
 def conflict(family):
     """Return the indexes of a conflict, in ascending order, or None if the family has a past."""
-    graph = family.graph
-    place = place_of_ring(graph.led)
-    if place is None:
+    kept = bonds_of_ring(family)
+    if kept is None:
         return None
     # The bonds of a ring leave no past; what can be left out of them one by one is no part of the conflict.
-    kept = _sources_of_ring(graph, place)
     for source in list(kept):
         fewer = [other for other in kept if other != source]
-        if not _leave_past(graph, fewer):
+        if not leave_past(family.graph, fewer):
             kept = fewer
     return kept
 
@@ -25,18 +23,20 @@ def unavoidable(family):
         return None
     # An unavoidable bond is in every conflict, so also in this one.
     indexes = list(range(len(family.bonds)))
-    return [place for place in found if _leave_past(family.graph, indexes[:place] + indexes[place + 1:])]
+    return [place for place in found if leave_past(family.graph, indexes[:place] + indexes[place + 1:])]
 
 
-def _sources_of_ring(graph, place):
-    """Return the indexes of the bonds of a ring through the side at this place and its opposite."""
+def bonds_of_ring(family):
+    """Return the indexes of the bonds of a ring, in ascending order, or None if the family has a past."""
+    graph = family.graph
+    place = place_of_ring(graph.led)
+    if place is None:
+        return None
     _, there = shortest_chain(graph, place, across(place))
     _, back = shortest_chain(graph, across(place), place)
     return sorted({source for source in there + back if source != INSIDE})
 
 
-def _leave_past(graph, sources):
+def leave_past(graph, sources):
     """Return True if some row keeps all bonds at these indexes, otherwise False."""
-    kept = {source: True for source in [INSIDE, *sources]}
-    ahead = [[(target, source) for target, source in steps if source in kept] for steps in graph.ahead]
-    return place_of_ring(led_by(ahead)) is None
+    return place_of_ring(led_with(graph, sources)) is None

@@ -1,7 +1,8 @@
 """What all kinds of finds have in common: the checks of their items, and their bonds (points 39 to 41).
 
-A kind is a tuple: its word, then the sort of each further item. The sorts "cell", "cells", "position" and "number"
-mean the same for all kinds of sites; a position belongs to the first cell that the find names.
+A kind is a tuple: its word, then the sort of each further item. These sorts mean the same for all kinds of sites:
+"cell", "cells", "position" and "wall" (of the first cell that the find names), "number", "count" (a number that is not
+negative) and "high" (a number that is not less than the item before it).
 """
 
 from everypast.bonds import tight_bonds
@@ -38,8 +39,13 @@ def fits_everywhere(stock, find, kind, place):
         return is_cell(stock, item) and item not in cells_named(find[:place], kind)
     if kind[place] == "cells":
         return _are_cells(stock, item)
-    if kind[place] == "position":
-        return is_place_on(stock.shape_of(cells_named(find, kind)[0]), item)
+    if kind[place] in ("position", "wall"):
+        least = 0 if kind[place] == "position" else 1
+        return isinstance(item, int) and least <= item <= stock.shape_of(cells_named(find, kind)[0]).size
+    if kind[place] == "count":
+        return isinstance(item, int) and item >= 0
+    if kind[place] == "high":
+        return isinstance(item, int) and item >= find[place - 1]
     return isinstance(item, int)
 
 
@@ -80,3 +86,27 @@ def check_names(names):
     for place, name in enumerate(names):
         if not valid_name(name) or name in names[:place]:
             raise BadName(name)
+
+
+def allowed_by_all(shape, allowed):
+    """Return ("common", positions) or ("apart", first, second) for some finds that name one cell of this shape.
+
+    `allowed` has the positions that the find at each index allows, a connected set or none.
+    """
+    positions = [position for position in range(shape.size + 1) if all(position in allowed[at] for at in allowed)]
+    if positions:
+        return ("common", positions)
+    first, second = _apart(allowed)
+    return ("apart", first, second)
+
+
+def _apart(allowed):
+    """Return the indexes of two finds that allow no common position, or twice the index of one that allows none."""
+    for at in allowed:
+        if not allowed[at]:
+            return (at, at)
+    for second in allowed:
+        for first in allowed:
+            if first < second and not any(position in allowed[first] for position in allowed[second]):
+                return (first, second)
+    return None

@@ -57,6 +57,12 @@ def led_by(ahead):
     return masks
 
 
+def led_with(graph, sources):
+    """Return, for each place, the mask of the places to which it leads if only the bonds at these indexes are kept."""
+    kept = {source: True for source in [INSIDE, *sources]}
+    return led_by([[(target, source) for target, source in steps if source in kept] for steps in graph.ahead])
+
+
 def _through(masks, place):
     """Return the masks, each with all of the mask of this place if the place is in it."""
     bit = 1 << place

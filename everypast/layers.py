@@ -27,7 +27,7 @@ class Layers(Site):
         self.deeds = tuple(deeds)
         self.last = last
 
-    def _without_finds(self):
+    def _made_anew(self):
         return Layers(self.deeds, self.last)
 
     def _kinds(self):

@@ -1,9 +1,9 @@
 """The pasts of a family in ascending order (point 24)."""
 
 from everypast.errors import BadPast
-from everypast.graphs import is_clear, place_of_ring
+from everypast.graphs import is_clear
 from everypast.possible import position_masks
-from everypast.solving import check_past
+from everypast.solving import check_past, has_past
 
 
 def first_past(family):
@@ -27,7 +27,7 @@ def check_is_past(family, row):
 
 def pasts(family, *, limit=20):
     """Yield the first pasts in ascending order, at most as many as the limit says."""
-    if place_of_ring(family.graph.led) is not None:
+    if not has_past(family):
         return
     masks = _masks_of_cells(family)
     row = _first_with(family.graph, masks, [])

@@ -7,17 +7,25 @@ from everypast.solving import check_past, row_of
 
 def earliest(layers):
     """Return the earliest past."""
-    family = _family_with_past(layers)
-    return row_of(family, certain_places(family.graph))
+    return least_row(_family_with_past(layers))
 
 
 def latest(layers):
     """Return the latest past."""
-    family = _family_with_past(layers)
+    return greatest_row(_family_with_past(layers))
+
+
+def least_row(family):
+    """Return the row of the least possible positions of a family of lines that has a past."""
+    # Of the up sides of a cell, the last one that is certain tells its least position.
+    return row_of(family, certain_places(family.graph))
+
+
+def greatest_row(family):
+    """Return the row of the greatest possible positions of a family of lines that has a past."""
+    # Of the up sides of a cell, the last one that is not impossible tells its greatest position.
     graph = family.graph
-    # Of the up sides of a cell, the last one that is not impossible tells its greatest layer.
-    ups = graph.firsts & ~opposites(graph, certain_places(graph))
-    return row_of(family, ups)
+    return row_of(family, graph.firsts & ~opposites(graph, certain_places(graph)))
 
 
 def _family_with_past(layers):
@@ -33,7 +41,7 @@ def least_with(layers, deed, layer):
     family = _family_with_past(layers)
     graph = family.graph
     if layer == 0:
-        return row_of(family, certain_places(graph))
+        return least_row(family)
     place = graph.places[deed, layer]
     return None if is_certain(graph, across(place)) else _least_past(family, place)
 

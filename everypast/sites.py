@@ -13,7 +13,7 @@ KINDS = (("rows", "cells", "rows"), ("bond", "side"), ("bond", "side", "side"))
 class Site:
     """A stock with a list of finds.
 
-    Another kind of site has its own `_without_finds`, `_kinds`, `_fits` and `_allowed`.
+    Another kind of site has its own `_made_anew`, `_kinds`, `_fits`, `_allowed` and perhaps `_cells_of`.
     """
 
     def __init__(self, stock):
@@ -47,7 +47,7 @@ class Site:
 
     def twin(self):
         """Return a new site of the same class with the same finds."""
-        other = self._without_finds()
+        other = self._made_anew()
         other._finds = list(self._finds)
         other._bonds = list(self._bonds)
         return other
@@ -83,12 +83,16 @@ class Site:
                 raise BadFind(place)
         if find[0] == "bond":
             return [find[1:]]
-        cells = cells_named(find, kind)
+        cells = self._cells_of(find, kind)
         return bonds_over(self.stock, cells, self._allowed(find, cells))
 
-    def _without_finds(self):
-        """Return a new site of the same class without finds."""
+    def _made_anew(self):
+        """Return a new site of the same class with the finds with which such a site is created."""
         return Site(self.stock)
+
+    def _cells_of(self, find, kind):
+        """Return the cells that the find names."""
+        return cells_named(find, kind)
 
     def _kinds(self):
         """Return the kinds of finds that the site takes."""

@@ -30,6 +30,11 @@ def places_of(family, sides):
     return [family.graph.places[side] for side in sides]
 
 
+def has_past(family):
+    """Return True if the family has a past, otherwise False."""
+    return place_of_ring(family.graph.led) is None
+
+
 def check_past(family):
     """Raise NoPast with a ring if the family has no past."""
     graph = family.graph

@@ -1,7 +1,7 @@
 """Texts: signs at places that clerks have copied, perhaps with slips (points 54 and 55)."""
 
 from everypast.errors import BadName, NoReading, UnknownName, UnlikeShapes
-from everypast.finds import check_closed, check_names, fits_everywhere, is_place_on
+from everypast.finds import allowed_by_all, check_closed, check_names, fits_everywhere, is_place_on
 from everypast.names import valid_name
 from everypast.rows import every_row
 from everypast.shapes import check_side, equal_shapes
@@ -9,7 +9,7 @@ from everypast.sites import Site
 from everypast.stocks import Stock
 
 KINDS = (
-    ("copy", "clerk", "cell", "sign", "slips"),
+    ("copy", "clerk", "cell", "sign", "count"),
     ("same", "cell", "cell"),
     ("among", "cell", "signs"),
 )
@@ -37,7 +37,7 @@ class Text(Site):
             raise UnknownName(name)
         return self._clerks[name]
 
-    def _without_finds(self):
+    def _made_anew(self):
         return Text(self.places, self.shape, self._clerks)
 
     def _kinds(self):
@@ -49,8 +49,6 @@ class Text(Site):
             return isinstance(item, str) and item in self._clerks
         if kind[place] == "sign":
             return is_place_on(self._clerks[find[1]].other, item)
-        if kind[place] == "slips":
-            return isinstance(item, int) and item >= 0
         if kind[place] == "signs":
             return isinstance(item, tuple) and all(is_place_on(self.shape, sign) for sign in item)
         return fits_everywhere(self.stock, find, kind, place)
@@ -75,30 +73,13 @@ def signs_allowed(text, find):
 
 def readings(text, place):
     """Return the readings of the place, or two "copy" finds for it that allow no common sign."""
-    allowed = _allowed_by_copies(text, place)
-    common = [sign for sign in range(text.shape.size + 1) if all(sign in allowed[at] for at in allowed)]
-    if common:
-        return ("common", common)
-    first, second = _apart(allowed)
-    return ("apart", first, second)
+    return allowed_by_all(text.shape, _allowed_by_copies(text, place))
 
 
 def _allowed_by_copies(text, place):
     """Return, for the index of each "copy" find for the place, the signs that it allows, in ascending order."""
     text.stock.shape_of(place)
     return {at: signs_allowed(text, find) for at, find in enumerate(text) if find[0] == "copy" and find[2] == place}
-
-
-def _apart(allowed):
-    """Return the indexes of two finds that allow no common sign, or twice the index of one that allows none."""
-    for at in allowed:
-        if not allowed[at]:
-            return (at, at)
-    for second in allowed:
-        for first in allowed:
-            if first < second and not any(sign in allowed[first] for sign in allowed[second]):
-                return (first, second)
-    return None
 
 
 def told_by(text, place, side):

@@ -28,6 +28,12 @@ DOCUMENT = """
 >>> from everypast.twins import near_twins
 >>> near_twins(family, ("a", 2))
 ([1, 1], [2, 1])
+>>> from everypast.tunnels import Tunnels
+>>> from everypast.stairs import corners, stairs
+>>> stairs(Tunnels([0, 1, 0], [2, 1, 3]), [1, 5, 3])
+[[1, 2], [3]]
+>>> corners(Tunnels([0, 1, 0], [2, 1, 3]), [1, 5, 3])
+[(0, 0), (3, 6), (6, 9)]
 """
 
 

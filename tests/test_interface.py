@@ -64,6 +64,29 @@ FUNCTIONS = {
         "swaps(clerk)",
     ),
     "texts": ("readings(text, place)", "told_by(text, place, side)"),
+    "webs": ("web_of(shades, cell)", "webs(shades)", "odd_walk(shades, cell)", "account(shades, cell)"),
+    "sweeps": (
+        "possible_cuts(cuts, cloth)", "earliest_cuts(cuts)", "latest_cuts(cuts)", "possible_dips(cuts, cloth)",
+        "possible_shades(cuts, cloth)",
+    ),
+    "turning": (
+        "turned_row(stock, names, row)", "turned_family(family, names)", "extremes(family)", "turning(family)",
+        "is_odd_ring(family, entries)",
+    ),
+    "bundles": (
+        "best_set(tunnels, weights)", "prices(tunnels, weights, a, b)",
+        "are_prices(tunnels, weights, a, b, offered)",
+    ),
+    "stairs": ("stairs(tunnels, weights)", "corners(tunnels, weights)", "height(tunnels, weights, length)"),
+    "digs": ("places(digs, thing)",),
+    "spots": (
+        "serving(family, spots, side)", "nearest_spot(family, spots, side)", "least_digging(family, spots, sides)",
+    ),
+    "houses": ("house_conflict(house)", "culprits(house)", "leans_on(house, side)"),
+    "letters": ("letter(house, name)", "family_by_letters(house, name)", "folded(house, name, into)"),
+    "talks": ("talk(family, truth, looks)",),
+    "notation": ("write_entry(entry)", "read_entry(text)", "write_journal(entries)", "read_journal(text)"),
+    "replaying": ("replay(house, journal)",),
 }
 
 METHODS = {
@@ -99,6 +122,23 @@ METHODS = {
         "copied(self, sign)", "walls_kept(self)", "loss(self, wall)", "alike(self, first, second)",
     ),
     ("texts", "Text"): ("__init__(self, places, shape, clerks)", "clerk_of(self, name)"),
+    ("shades", "Shades"): ("__init__(self, cells, top)",),
+    ("vats", "Vat"): ("__init__(self, steps)", "strength(self, dips)"),
+    ("vats", "Cuts"): ("__init__(self, vat, cloths)",),
+    ("tunnels", "Tunnels"): (
+        "__init__(self, parents, lengths)", "opened(self, positions)", "cost(self, positions, *, opened=())",
+        "between(self, first, second)", "is_closed(self, walls)", "total(self, values, walls)",
+    ),
+    ("digs", "Digs"): ("__init__(self, things, tunnels)",),
+    ("spots", "Spots"): ("__init__(self, tunnels, shown)", "__len__(self)", "__iter__(self)", "shown_at(self, position)"),
+    ("houses", "House"): (
+        "__init__(self, sites)", "__len__(self)", "site(self, name)", "family(self)", "sources(self)",
+        "shared(self, name)", "with_site(self, name, site)", "without_find(self, name, place)",
+    ),
+    ("desk", "Desk"): (
+        "__init__(self, house)", "__len__(self)", "__iter__(self)", "take(self, site, find)", "drop(self, site, place)",
+        "look(self, cell, position)", "ask(self, sides)", "undo(self)", "redo(self)",
+    ),
 }
 
 

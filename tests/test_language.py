@@ -29,6 +29,8 @@ NOT_IN_FILES = set(
     "type typing typing_extensions enum Enum IntEnum StrEnum Flag IntFlag Generic Protocol ABC ABCMeta namedtuple"
     " NamedTuple TypedDict TYPE_CHECKING abstractmethod".split()
 )
+# Of the library, only what a bare call of needs no care: the rows of L2 limit the other modules more.
+LIBRARY = {"math": {"gcd"}}
 METHODS = set("__init__ __len__ __iter__ __contains__ __and__ __mul__ __call__ __eq__ __repr__ __str__".split())
 
 
@@ -137,6 +139,9 @@ class Files(unittest.TestCase):
                 self.assertNotIsInstance(node, ast.Import, f"L16 {path}")
                 if isinstance(node, ast.ImportFrom):
                     self.assertIn(node, tree.body, f"L2 {path}:{node.lineno}")
+                    if node.module in LIBRARY:
+                        self.assertLessEqual({alias.name for alias in node.names}, LIBRARY[node.module], f"L2 {path}")
+                        continue
                     self.assertTrue(node.module.startswith("everypast.") and node.level == 0, f"L2 {path}")
                     source = ast.parse((PACKAGE / (node.module.split(".")[1] + ".py")).read_text(encoding="utf-8"))
                     defined = [item.name for item in source.body if isinstance(item, (ast.FunctionDef, ast.ClassDef))]

@@ -50,9 +50,9 @@ class Examples(unittest.TestCase):
     def test_the_readme(self):
         text = (ROOT / "README.md").read_text(encoding="utf-8")
         examples = [part.split("```")[0] for part in text.split("```python\n")[1:]]
-        self.assertEqual(len(examples), 2)
-        for example in examples:
-            self.check(example, "README.md")
+        self.assertEqual(len(examples), 3)
+        # Each example goes on where the one before it ends.
+        self.check("".join(examples), "README.md")
 
 
 if __name__ == "__main__":

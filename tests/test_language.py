@@ -25,6 +25,10 @@ NOT_AS_NAMES = set(
     "attrgetter breakpoint builtins compile copyright credits delattr dir eval exec exit gc globals help id importlib"
     " license locals methodcaller os quit vars sys format".split()
 )
+NOT_BEGINNINGS = (
+    r"^(_wall|_pe_|_dcw_|_enum_|_cm_|_twin_re_|_lay_|_law_|_stub_|_sre|_WallAttr)"
+    r"|^(_cold|_tuplegetter|_outside|_record|_written_out|_member_names)[0-9_]*$"
+)
 NOT_IN_FILES = set(
     "type typing typing_extensions enum Enum IntEnum StrEnum Flag IntFlag Generic Protocol ABC ABCMeta namedtuple"
     " NamedTuple TypedDict TYPE_CHECKING abstractmethod".split()
@@ -105,6 +109,61 @@ def loops_that_change_what_they_walk(tree):
                     for name in walked(loop):
                         if same.get(name, {name}) & set(changed(loop)):
                             found.append(loop.lineno)
+    return found
+
+
+def parents_in(tree):
+    return {child: node for node in ast.walk(tree) for child in ast.iter_child_nodes(node)}
+
+
+def is_call_of(node, names):
+    return isinstance(node, ast.Call) and isinstance(node.func, ast.Name) and node.func.id in names
+
+
+def sets_out_of_place(tree):
+    """The lines of sets that are not sorted, counted, compared or tested on the spot."""
+    parents = parents_in(tree)
+    found = []
+    for node in ast.walk(tree):
+        if isinstance(node, (ast.Set, ast.SetComp)) or is_call_of(node, {"set", "frozenset"}):
+            parent = parents[node]
+            if not is_call_of(parent, {"sorted", "len"}) and not isinstance(parent, ast.Compare):
+                found.append(node.lineno)
+    return found
+
+
+AT_ONCE = set("list tuple dict sorted sum any all min max enumerate zip".split())
+
+
+def kept_iterations(tree):
+    """The lines of zip(..), enumerate(..), reversed(..) and views that are not iterated on the spot."""
+    parents = parents_in(tree)
+    found = []
+    for node in ast.walk(tree):
+        is_view = isinstance(node, ast.Call) and isinstance(node.func, ast.Attribute) and node.func.attr in (
+            "items", "keys", "values"
+        )
+        if is_view or is_call_of(node, {"zip", "enumerate", "reversed"}):
+            parent = parents[node]
+            is_walked = isinstance(parent, (ast.For, ast.comprehension)) and parent.iter is node
+            if not is_walked and not is_call_of(parent, AT_ONCE):
+                found.append(node.lineno)
+    return found
+
+
+def methods_and_attributes(trees):
+    """For each class, the names of its methods and of the attributes that its methods assign to their own object."""
+    found = {}
+    for tree in trees:
+        for node in tree.body:
+            if isinstance(node, ast.ClassDef):
+                methods = {item.name for item in node.body if isinstance(item, ast.FunctionDef)}
+                attributes = {
+                    inner.attr
+                    for inner in ast.walk(node)
+                    if isinstance(inner, ast.Attribute) and isinstance(inner.ctx, ast.Store)
+                }
+                found[node.name] = (methods, attributes)
     return found
 
 
@@ -192,6 +251,40 @@ class Files(unittest.TestCase):
             tree = ast.parse(text.format(walk, row))
             self.assertEqual(loops_that_change_what_they_walk(tree), [4] if wrong else [], (walk, row))
 
+    def test_sets_and_iterations(self):
+        for path, tree in self.trees():
+            self.assertEqual(sets_out_of_place(tree), [], f"L24 {path}")
+            self.assertEqual(kept_iterations(tree), [], f"L23 {path}")
+
+    def test_the_tests_of_sets_and_iterations(self):
+        for text, wrong in (
+            ("sorted(set(a))", 0), ("len({b for b in a})", 0), ("b in {1, 2}", 0), ("set(a) == set(b)", 0),
+            ("list(set(a))", 1), ("for b in set(a): pass", 1), ("f({1})", 1), ("c = set()", 1),
+        ):
+            self.assertEqual(len(sets_out_of_place(ast.parse(text))), wrong, text)
+        for text, wrong in (
+            ("for b in zip(a, a): pass", 0), ("[b for b in a.items()]", 0), ("dict(zip(a, a))", 0), ("b = zip(a, a)", 1),
+            ("f(a.keys())", 1), ("len(enumerate(a))", 1), ("reversed(a)[0]", 1), ("list(enumerate(a))", 0),
+        ):
+            self.assertEqual(len(kept_iterations(ast.parse(text))), wrong, text)
+
+    def test_methods_and_attributes(self):
+        found = methods_and_attributes([tree for _, tree in self.trees()])
+        methods = set().union(*[names for names, _ in found.values()])
+        attributes = set().union(*[names for _, names in found.values()])
+        # L18 lets different classes use a name both ways; here none does.
+        self.assertEqual(methods & attributes, set())
+        # L26.
+        self.assertFalse(attributes & set("items keys values args encode decode hex format".split()) | MODIFYING & methods)
+
+    def test_lengths(self):
+        for path, tree in self.trees():
+            for node in ast.walk(tree):
+                if isinstance(node, ast.FunctionDef) and node.name in ("__len__", "__iter__"):
+                    row = node.body[-1]
+                    self.assertEqual((len(node.body), type(row)), (1, ast.Return), f"L5, L28 {path}:{node.lineno}")
+                    self.assertTrue(is_call_of(row.value, {"len", "iter"}), f"L5, L28 {path}:{node.lineno}")
+
     def test_module_level(self):
         for path, tree in self.trees():
             names = []
@@ -237,6 +330,7 @@ class Files(unittest.TestCase):
                 for word in words:
                     self.assertNotIn(word, NOT_ANYWHERE | NOT_IN_FILES, f"L17 {path}:{getattr(node, 'lineno', 0)}")
                     self.assertRegex(word, r"^(_?[A-Za-z][A-Za-z0-9_]*|_|__[a-z]+__)$", f"L12 {path}")
+                    self.assertNotRegex(word, NOT_BEGINNINGS, f"L12 {path}")
                 if isinstance(node, ast.Constant) and isinstance(node.value, str) and node not in docstrings(tree):
                     for word in re.findall(r"\w+", node.value):
                         self.assertNotIn(word, NOT_IN_FILES, f"L17 {path}:{node.lineno}")

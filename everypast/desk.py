@@ -42,9 +42,9 @@ class Desk:
         changed = self.house.site(site)
         place = changed.take(find)
         house = self.house.with_site(site, changed)
-        check_past(house.family())
         stays = house.family().is_past(self._picture)
-        self._do(("take", site, tuple(find)), house, self._picture if stays else first_past(house.family()))
+        picture = self._picture if stays else first_past(house.family())
+        self._do(("take", site, tuple(find)), house, picture)
         return place
 
     def drop(self, site, place):

@@ -1,7 +1,7 @@
 """Tunnels: shapes whose walls have lengths (point 64)."""
 
 from everypast.errors import BadLength, BadSide
-from everypast.shapes import Shape, check_position
+from everypast.shapes import Shape
 
 
 class Tunnels:
@@ -17,8 +17,6 @@ class Tunnels:
 
     def opened(self, positions):
         """Return the tunnels that have to be dug to open the positions, in ascending order."""
-        for position in positions:
-            check_position(self.shape, position)
         ways = [self.shape.way(0, position) for position in positions]
         return sorted({wall for way in ways for wall in way if wall > 0})
 

@@ -80,8 +80,8 @@ class Case(unittest.TestCase):
 
 
 def state_of(site):
-    """What can be seen of a site."""
-    return (list(site), len(site), [site.bonds_of(place) for place in range(len(site))], list(site.family()))
+    """What can be seen of a site, in new lists."""
+    return (list(site), len(site), [list(site.bonds_of(place)) for place in range(len(site))], list(site.family()))
 
 
 # Shapes, given by their parents.

@@ -80,6 +80,12 @@ class BestSets(Case):
         self.assertEqual(best_set(tunnels, [2, 4, 5, 4]), (10, 5, [1, 2, 4]))
         self.assertEqual(best_set(tunnels, [999, 0, 0, 0]), (999, 1, [1]))
 
+    def test_weights_beyond_their_bounds(self):
+        tunnels = Tunnels([0, 1, 0], [1000, 1, 20000])
+        self.assertEqual(best_set(tunnels, [1000, 20000, 999999999]), (999999999, 20000, [3]))
+        self.assertEqual(prices(tunnels, [1000, 20000, 999999999], 999999999, 20000), [0, 0, 0])
+        self.assertIsNone(prices(tunnels, [1000, 20000, 999999999], 999999998, 20000))
+
     def test_what_is_passed_and_returned_can_be_changed(self):
         tunnels, weights = Tunnels([0, 0], [1, 1]), [2, 2]
         best_set(tunnels, weights)[2].clear()

@@ -20,8 +20,8 @@ HOUSES = [(house, sites) for house, sites in some_houses(60, seed=750, most=3) i
 
 
 def visible(desk):
-    """What can be seen of a desk."""
-    return (state_of_house(desk.house), desk.picture, list(desk), len(desk), desk.asked)
+    """What can be seen of a desk, in new lists."""
+    return (state_of_house(desk.house), list(desk.picture), list(desk), len(desk), desk.asked)
 
 
 class Model:

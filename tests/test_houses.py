@@ -21,9 +21,9 @@ HOUSES = some_houses(60, seed=710) + some_houses(60, seed=711, bent=0.5) + some_
 
 
 def state_of_house(house):
-    """What can be seen of a house."""
+    """What can be seen of a house, in new lists."""
     return (
-        house.names, house.stock.names, list(house.family()), house.sources(),
+        house.names, house.stock.names, list(house.family()), list(house.sources()),
         [state_of(house.site(name)) for name in house.names],
     )
 

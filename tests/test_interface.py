@@ -160,6 +160,13 @@ class Interface(unittest.TestCase):
             for written in methods:
                 self.check(owner, written, file)
 
+    def test_all_other_sites_are_sites(self):
+        base = vars(importlib.import_module("everypast.sites"))["Site"]
+        for file, name in (
+            ("layers", "Layers"), ("texts", "Text"), ("shades", "Shades"), ("vats", "Cuts"), ("digs", "Digs"),
+        ):
+            self.assertTrue(issubclass(vars(importlib.import_module(f"everypast.{file}"))[name], base))
+
 
 if __name__ == "__main__":
     unittest.main()

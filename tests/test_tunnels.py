@@ -46,6 +46,11 @@ class Creation(Case):
         self.assertIs(type(tunnels.lengths), tuple)
         self.assertEqual(Tunnels((0,), (1,)).lengths, (1,))
 
+    def test_lengths_beyond_their_bounds(self):
+        for lengths in ([1000, 1], [20000, 999999999], (999, 1000)):
+            tunnels = Tunnels([0, 1], lengths)
+            self.assertEqual((tunnels.lengths, tunnels.cost([2])), (tuple(lengths), sum(lengths)))
+
     def test_errors_in_their_order(self):
         for parents, place in (([], 0), ([1], 0), ([0, 2], 1), ([0, 0, -1], 2)):
             for lengths in ([], [0], [1, 1, 1, 1]):

@@ -254,6 +254,8 @@ class Rings(Case):
                 [(other_side(first), second, path) for first, second, path in ring],
                 [(first, other_side(second), path) for first, second, path in ring],
                 [(first, first, ([other_side(first), first], [0])) for first, second, path in ring],
+                # A pair of two sides of the same cell, whose bond always holds, belongs in no ring.
+                [(ring[0][0], other_side(ring[0][0]), ([other_side(ring[0][0])], [])), *ring],
             ]
             for _ in range(30):
                 changed = [list(entry) for entry in ring]

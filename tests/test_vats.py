@@ -72,6 +72,12 @@ class Vats(Case):
             for dips in (-1, len(steps) + 1, 20000, -20000):
                 self.raises(BadCount, {"number": dips}, vat.strength, dips)
 
+    def test_steps_beyond_their_bounds(self):
+        for steps in ([1000], [20000, 1000, 999], [1] * 9, [999999999]):
+            vat = Vat(steps)
+            self.assertEqual((vat.steps, vat.strength(vat.size)), (tuple(steps), sum(steps)))
+            self.assertEqual(len(every_past(Cuts(vat, ["a"]).family())), len(steps) + 1)
+
     def test_later_changes(self):
         steps = [3, 2]
         vat = Vat(steps)
